@@ -1,0 +1,1 @@
+"""Nothing is refused, so no error is defined here."""
