@@ -51,11 +51,14 @@ def worth(tree):
     """The number that comes of the tree."""
     if tree[0] == "number":
         return tree[1]
-    one = worth(tree[1])
-    other = worth(tree[2])
-    if tree[0] == "plus":
+    return joined_worth(tree[0], worth(tree[1]), worth(tree[2]))
+
+
+def joined_worth(kind, one, other):
+    """The number that comes of a join of this kind, its parts being worth one and other."""
+    if kind == "plus":
         return one + other
-    if tree[0] == "less":
+    if kind == "less":
         return one - other
     return one * other
 

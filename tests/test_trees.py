@@ -4,13 +4,9 @@ import copy
 import itertools
 import unittest
 
+from helper import KINDS, even, joins_of, left_chain, made_of_tuples, number, right_chain
+
 from fewpans.trees import is_tree, part_at, turned, worth
-
-KINDS = ("plus", "less", "times")
-
-
-def number(n):
-    return ("number", n)
 
 
 def plus(one, other):
@@ -23,27 +19,6 @@ def less(one, other):
 
 def times(one, other):
     return ("times", one, other)
-
-
-def left_chain(numbers):
-    tree = number(0)
-    for n in range(1, numbers):
-        tree = (KINDS[n % 3], tree, number(n))
-    return tree
-
-
-def right_chain(numbers):
-    tree = number(0)
-    for n in range(1, numbers):
-        tree = (KINDS[n % 3], number(n), tree)
-    return tree
-
-
-def even(numbers):
-    if numbers == 1:
-        return number(7)
-    half = numbers // 2
-    return plus(even(half), even(numbers - half))
 
 
 SHAPES = (left_chain, right_chain, even)
@@ -351,13 +326,13 @@ class Turned(unittest.TestCase):
     def test_the_rest_stays(self):
         trees = [SAMPLE, even(16), even(17)] + [shape(16) for shape in SHAPES]
         for tree in trees:
-            for address in join_addresses(tree):
+            for address in joins_of(tree):
                 kind, one, other = part_at(tree, address)
                 self.assertEqual(turned(tree, address), replaced(tree, address, (kind, other, one)))
 
     def test_twice_gives_the_tree_again(self):
         for tree in small_trees() + [SAMPLE] + [shape(16) for shape in SHAPES]:
-            for address in join_addresses(tree):
+            for address in joins_of(tree):
                 once = turned(tree, address)
                 self.assertIs(is_tree(once), True)
                 self.assertEqual(turned(once, address), tree)
@@ -365,20 +340,6 @@ class Turned(unittest.TestCase):
     def test_worth_when_turned(self):
         for kind, n in (("plus", 5), ("less", 1), ("times", 6)):
             self.assertEqual(worth(turned((kind, number(2), number(3)), "")), n)
-
-
-def join_addresses(tree, address=""):
-    if tree[0] == "number":
-        return []
-    within = join_addresses(tree[1], address + "l") + join_addresses(tree[2], address + "r")
-    return [address] + within
-
-
-def all_tuples(thing):
-    """Whether the thing is made of tuples, texts and whole numbers alone."""
-    if isinstance(thing, tuple):
-        return all([all_tuples(part) for part in thing])
-    return isinstance(thing, (str, int)) and not isinstance(thing, bool)
 
 
 class TheWhole(unittest.TestCase):
@@ -404,13 +365,13 @@ class TheWhole(unittest.TestCase):
 
     def test_answers_are_tuples_throughout(self):
         for tree in (SAMPLE, even(16)):
-            for address in join_addresses(tree):
-                self.assertIs(all_tuples(turned(tree, address)), True)
-                self.assertIs(all_tuples(part_at(tree, address)), True)
+            for address in joins_of(tree):
+                self.assertIs(made_of_tuples(turned(tree, address)), True)
+                self.assertIs(made_of_tuples(part_at(tree, address)), True)
 
 
 def ask(tree):
     """All that can be asked of a tree."""
     parts = [part_at(tree, address) for address in ("", "l", "rl", "rrr", "x")]
-    turns = [turned(tree, address) for address in join_addresses(tree)]
+    turns = [turned(tree, address) for address in joins_of(tree)]
     return (is_tree(tree), worth(tree), parts, turns)
